@@ -1,0 +1,33 @@
+// Package pupil: small Scheme programs, each run in a world of its own. See DOC.md.
+package pupil
+
+import (
+	"strings"
+
+	"pupil/api"
+	"pupil/datum"
+	"pupil/read"
+)
+
+// Parse reads a text, and writes what it says in one way (P3 to P5).
+func Parse(text string) (string, api.Errno, int) {
+	data, stop := read.Text(text)
+	if stop != nil {
+		return "", stop.Reason, stop.Place
+	}
+	var out strings.Builder
+	for _, d := range data {
+		datum.Write(&out, d)
+		out.WriteByte('\n')
+	}
+	return out.String(), api.OK, 0
+}
+
+// Grader runs submissions, one after the other.
+type Grader struct{}
+
+// New makes a grader (P6).
+func New() *Grader { return nil }
+
+// Run runs a submission (P6 to P20).
+func (g *Grader) Run(s api.Submission) api.Report { return api.Report{} }
