@@ -1,10 +1,5 @@
-// Package datum: the data that a text is made of, and how they are written.
+// Package datum: the data that a text is made of.
 package datum
-
-import (
-	"strconv"
-	"strings"
-)
 
 // Kind tells which of its fields a Datum uses.
 type Kind int
@@ -23,6 +18,7 @@ type Datum struct {
 	Number  int64
 	Truth   bool
 	Text    string // of a symbol, or of a string without its quotes
+	Mark    int    // of a symbol: 0 if it stands in the text
 	Members []Datum
 }
 
@@ -41,40 +37,11 @@ func OfSymbol(name string) Datum { return Datum{Kind: Symbol, Text: name} }
 // OfList makes a list.
 func OfList(members ...Datum) Datum { return Datum{Kind: List, Members: members} }
 
-// Write puts d behind what out holds, in the one way in which it is written.
-func Write(out *strings.Builder, d Datum) {
-	switch d.Kind {
-	case Number:
-		out.WriteString(strconv.FormatInt(d.Number, 10))
-	case Boolean:
-		writeTruth(out, d.Truth)
-	case String:
-		// No string holds a byte that would have to be escaped.
-		out.WriteByte('"')
-		out.WriteString(d.Text)
-		out.WriteByte('"')
-	case Symbol:
-		out.WriteString(d.Text)
-	case List:
-		writeList(out, d.Members)
+// CountMembers counts the members of all lists in d: as many pairs has its value.
+func CountMembers(d Datum) int {
+	count := len(d.Members)
+	for _, m := range d.Members {
+		count += CountMembers(m)
 	}
-}
-
-func writeTruth(out *strings.Builder, truth bool) {
-	if truth {
-		out.WriteString("#t")
-		return
-	}
-	out.WriteString("#f")
-}
-
-func writeList(out *strings.Builder, members []Datum) {
-	out.WriteByte('(')
-	for i, m := range members {
-		if i > 0 {
-			out.WriteByte(' ')
-		}
-		Write(out, m)
-	}
-	out.WriteByte(')')
+	return count
 }

@@ -1,42 +1,23 @@
 package datum
 
-import (
-	"math"
-	"strings"
-	"testing"
-)
+import "testing"
 
-func TestWrite(t *testing.T) {
+func TestCountMembers(t *testing.T) {
+	one, a := OfNumber(1), OfSymbol("a")
 	for _, c := range []struct {
 		d    Datum
-		want string
+		want int
 	}{
-		{OfNumber(0), "0"},
-		{OfNumber(-7), "-7"},
-		{OfNumber(math.MaxInt64), "9223372036854775807"},
-		{OfNumber(math.MinInt64), "-9223372036854775808"},
-		{OfTruth(true), "#t"},
-		{OfTruth(false), "#f"},
-		{OfString(""), `""`},
-		{OfString("a ; ( '"), `"a ; ( '"`},
-		{OfSymbol("..."), "..."},
-		{OfList(), "()"},
-		{OfList(OfSymbol("a")), "(a)"},
-		{OfList(OfList(), OfList(OfNumber(1), OfString("x")), OfTruth(true)), `(() (1 "x") #t)`},
+		{one, 0},
+		{OfString("(a b)"), 0},
+		{OfList(), 0},
+		{OfList(one, a), 2},
+		{OfList(OfList()), 1},
+		{OfList(OfList(one), a), 3},
+		{OfList(OfList(OfList(one, a), a), OfList(), a), 7},
 	} {
-		var out strings.Builder
-		Write(&out, c.d)
-		if out.String() != c.want {
-			t.Errorf("P4: Write(%+v) wrote %q, want %q", c.d, out.String(), c.want)
+		if got := CountMembers(c.d); got != c.want {
+			t.Errorf("P13: CountMembers(%+v) = %d, want %d", c.d, got, c.want)
 		}
-	}
-}
-
-func TestWriteGoesBehindWhatIsThere(t *testing.T) {
-	var out strings.Builder
-	Write(&out, OfNumber(1))
-	Write(&out, OfSymbol("a"))
-	if out.String() != "1a" {
-		t.Errorf("P4: two data written are %q, want %q", out.String(), "1a")
 	}
 }

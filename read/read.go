@@ -21,21 +21,28 @@ type reader struct {
 	depth int // the lists and quotes that are open
 }
 
-// Text reads all data of a text; the Stop is nil if nothing is wrong with it.
-func Text(text string) ([]datum.Datum, *Stop) {
+// Form is a datum of a text that stands in no other, and where it begins.
+type Form struct {
+	Datum datum.Datum
+	Place int
+}
+
+// Text reads all forms of a text; the Stop is nil if nothing is wrong with it.
+func Text(text string) ([]Form, *Stop) {
 	if len(text) > api.MaxText {
 		return nil, &Stop{api.ErrLong, 0}
 	}
 	r := &reader{text: text}
-	var data []datum.Datum
+	var forms []Form
 	for r.skip(); !r.ended(); r.skip() {
+		place := r.at
 		d, stop := r.datum()
 		if stop != nil {
 			return nil, stop
 		}
-		data = append(data, d)
+		forms = append(forms, Form{d, place})
 	}
-	return data, nil
+	return forms, nil
 }
 
 func fail(reason api.Errno, place int) (datum.Datum, *Stop) {

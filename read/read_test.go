@@ -2,6 +2,7 @@ package read
 
 import (
 	"reflect"
+	"slices"
 	"strings"
 	"testing"
 
@@ -26,9 +27,35 @@ func TestText(t *testing.T) {
 		{"(quote a)", []datum.Datum{datum.OfList(quote, a)}},
 		{"(a (a) 'a)", []datum.Datum{datum.OfList(a, datum.OfList(a), datum.OfList(quote, a))}},
 	} {
-		got, stop := Text(c.text)
+		forms, stop := Text(c.text)
+		var got []datum.Datum
+		for _, form := range forms {
+			got = append(got, form.Datum)
+		}
 		if stop != nil || !reflect.DeepEqual(got, c.want) {
 			t.Errorf("P3: Text(%q) = %+v, %+v, want %+v", c.text, got, stop, c.want)
+		}
+	}
+}
+
+func TestPlaces(t *testing.T) {
+	for _, c := range []struct {
+		text string
+		want []int
+	}{
+		{"", nil},
+		{"a", []int{0}},
+		{" \n;a b\n (c d)e", []int{8, 13}},
+		{"'a \"b\"#t(c '(d))", []int{0, 3, 6, 8}},
+		{"' ;x\n a -1", []int{0, 8}},
+	} {
+		forms, stop := Text(c.text)
+		var got []int
+		for _, form := range forms {
+			got = append(got, form.Place)
+		}
+		if stop != nil || !slices.Equal(got, c.want) {
+			t.Errorf("P6: the forms of %q begin at %v, want %v", c.text, got, c.want)
 		}
 	}
 }
@@ -43,9 +70,9 @@ func TestTextStops(t *testing.T) {
 		{"a (b", Stop{api.ErrEnd, 4}},
 		{"a 9223372036854775808", Stop{api.ErrMany, 2}},
 	} {
-		data, stop := Text(c.text)
-		if data != nil || stop == nil || *stop != c.want {
-			t.Errorf("P3: Text(%.40q) = %+v, %+v, want %+v", c.text, data, stop, c.want)
+		forms, stop := Text(c.text)
+		if forms != nil || stop == nil || *stop != c.want {
+			t.Errorf("P3: Text(%.40q) = %+v, %+v, want %+v", c.text, forms, stop, c.want)
 		}
 	}
 }

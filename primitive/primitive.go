@@ -1,0 +1,77 @@
+// Package primitive: the procedures that are there from the beginning on.
+package primitive
+
+import (
+	"pupil/api"
+	"pupil/eval"
+	"pupil/value"
+	"pupil/verdict"
+)
+
+// Define makes all primitives global variables of a machine.
+func Define(m *eval.Machine) {
+	defineNumbers(m)
+	defineKinds(m)
+	defineSameness(m)
+	definePairs(m)
+	defineLists(m)
+	defineTexts(m)
+	defineOthers(m)
+}
+
+// as takes an argument as one of a kind.
+func as[T value.Value](v value.Value) T {
+	if t, ok := v.(T); ok {
+		return t
+	}
+	panic(verdict.Of(api.Mistyped))
+}
+
+func mustBe(arguments []value.Value, count int) {
+	if len(arguments) != count {
+		panic(verdict.Of(api.Miscalled))
+	}
+}
+
+// one makes a primitive of one argument, whose kind is work's.
+func one[A value.Value](work func(A) value.Value) *value.Procedure {
+	return &value.Procedure{Apply: func(arguments []value.Value, use value.Use) value.Next {
+		mustBe(arguments, 1)
+		return use(work(as[A](arguments[0])))
+	}}
+}
+
+// two makes a primitive of two arguments, whose kinds are work's.
+func two[A, B value.Value](work func(A, B) value.Value) *value.Procedure {
+	return &value.Procedure{Apply: func(arguments []value.Value, use value.Use) value.Next {
+		mustBe(arguments, 2)
+		a := as[A](arguments[0])
+		b := as[B](arguments[1])
+		return use(work(a, b))
+	}}
+}
+
+func defineOthers(m *eval.Machine) {
+	m.Define("apply", apply(m))
+	m.Define("error", one(func(v value.Value) value.Value {
+		panic(verdict.Ending{Verdict: api.Raised, Value: value.Start(v, api.MaxText)})
+	}))
+	m.Define("seal", one(func(v value.Value) value.Value {
+		m.Cells.Take(1)
+		return &value.Seal{Open: func() value.Value { return v }}
+	}))
+}
+
+// apply does not give a value itself: it hands on what is to be done with the procedure's.
+func apply(m *eval.Machine) *value.Procedure {
+	return &value.Procedure{Apply: func(arguments []value.Value, use value.Use) value.Next {
+		mustBe(arguments, 2)
+		procedure := as[*value.Procedure](arguments[0])
+		var members []value.Value
+		eachMember(arguments[1], func(v value.Value) {
+			m.Steps.Take(1)
+			members = append(members, v)
+		})
+		return m.Apply(procedure, members, use)
+	}}
+}
