@@ -37,6 +37,9 @@ func OfSymbol(name string) Datum { return Datum{Kind: Symbol, Text: name} }
 // OfList makes a list.
 func OfList(members ...Datum) Datum { return Datum{Kind: List, Members: members} }
 
+// CountParts counts d itself and, if it is a list, the parts of its members.
+func CountParts(d Datum) int { return 1 + CountMembers(d) }
+
 // CountMembers counts the members of all lists in d: as many pairs has its value.
 func CountMembers(d Datum) int {
 	count := len(d.Members)

@@ -2,7 +2,7 @@ package datum
 
 import "testing"
 
-func TestCountMembers(t *testing.T) {
+func TestCounts(t *testing.T) {
 	one, a := OfNumber(1), OfSymbol("a")
 	for _, c := range []struct {
 		d    Datum
@@ -18,6 +18,9 @@ func TestCountMembers(t *testing.T) {
 	} {
 		if got := CountMembers(c.d); got != c.want {
 			t.Errorf("P13: CountMembers(%+v) = %d, want %d", c.d, got, c.want)
+		}
+		if got := CountParts(c.d); got != c.want+1 {
+			t.Errorf("P11: CountParts(%+v) = %d, want %d", c.d, got, c.want+1)
 		}
 	}
 }

@@ -25,9 +25,7 @@ func (f *Frame) variable(a Address) *value.Value {
 // Lambda gives a procedure of so many parameters.
 func (m *Machine) Lambda(parameters int, body Code) Code {
 	return m.lambda(body, func(arguments []value.Value) []value.Value {
-		if len(arguments) != parameters {
-			panic(verdict.Of(api.Miscalled))
-		}
+		verdict.Unless(len(arguments) == parameters, api.Miscalled)
 		m.Cells.Take(parameters)
 		return arguments
 	})

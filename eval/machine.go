@@ -13,16 +13,13 @@ type Machine struct {
 	Steps, Cells *meter.Meter
 	globals      map[string]*global
 	given        value.Value // what the form that is being run gave
+	winders      *winder     // those in force
 }
 
 // global is a global variable; its value is nil until it is defined.
 type global struct{ value value.Value }
 
-func (g *global) mustBeDefined() {
-	if g.value == nil {
-		panic(verdict.Of(api.Unbound))
-	}
-}
+func (g *global) mustBeDefined() { verdict.Unless(g.value != nil, api.Unbound) }
 
 // New makes a Machine without global variables.
 func New(fuel, quota int) *Machine {
@@ -63,8 +60,6 @@ func (m *Machine) Run(form Code) value.Value {
 func (m *Machine) Apply(v value.Value, arguments []value.Value, use value.Use) value.Next {
 	m.Steps.Take(1)
 	procedure, ok := v.(*value.Procedure)
-	if !ok {
-		panic(verdict.Of(api.Mistyped))
-	}
+	verdict.Unless(ok, api.Mistyped)
 	return func() value.Next { return procedure.Apply(arguments, use) }
 }

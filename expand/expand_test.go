@@ -6,6 +6,7 @@ import (
 	"pupil/api"
 	"pupil/datum"
 	"pupil/eval"
+	"pupil/meter"
 	"pupil/value"
 	"pupil/verdict"
 )
@@ -25,7 +26,7 @@ func given(form datum.Datum) (written string, ended int) {
 	}()
 	m := eval.New(100, 100)
 	m.Define("x", value.Symbol("global"))
-	return value.Start(m.Run(New(m).Form(form)), 100), 0
+	return value.Start(m.Run(New(m, meter.New(0, api.NoRewrite)).Form(form)), 100), 0
 }
 
 func TestP8Marks(t *testing.T) {
@@ -70,7 +71,7 @@ func TestP8Marks(t *testing.T) {
 // What a definition defines is the global variable of the symbol, whatever the mark.
 func TestP9DefinitionsAreOfSymbols(t *testing.T) {
 	m := eval.New(100, 100)
-	x := New(m)
+	x := New(m, meter.New(0, api.NoRewrite))
 	m.Run(x.Form(datum.OfList(datum.OfSymbol("define"), marked("y", 1), datum.OfNumber(1))))
 	if got := value.Start(m.Run(x.Form(datum.OfSymbol("y"))), 100); got != "1" {
 		t.Errorf("P9: y is %s, want 1", got)

@@ -13,32 +13,62 @@ type identifier struct {
 	mark   int
 }
 
-// scope holds the variables that one lambda or let binds.
+// scope holds the variables of the lambdas and lets around the form that is being expanded.
 type scope struct {
-	names []identifier
-	outer *scope
+	depth int                   // how many of them are around
+	bound map[identifier][]spot // the innermost last
+}
+
+// spot is where a variable is: bound so deep, and which one there.
+type spot struct{ depth, at int }
+
+func (s *scope) enter(names []identifier) {
+	s.depth++
+	for at, name := range names {
+		s.bound[name] = append(s.bound[name], spot{s.depth, at})
+	}
+}
+
+func (s *scope) leave(names []identifier) {
+	s.depth--
+	for _, name := range names {
+		spots := s.bound[name]
+		s.bound[name] = spots[:len(spots)-1]
+	}
+}
+
+// find tells where the innermost variable is that an identifier is bound to, if there is one.
+func (s *scope) find(name identifier) (eval.Address, bool) {
+	spots := s.bound[name]
+	if len(spots) == 0 {
+		return eval.Address{}, false
+	}
+	innermost := spots[len(spots)-1]
+	return eval.Address{Out: s.depth - innermost.depth, At: innermost.at}, true
 }
 
 type meaning int
 
 const (
 	local   meaning = iota // a variable of a lambda or let
-	keyword                // by the symbol alone
-	global                 // by the symbol alone
+	keyword                // this and what follows: by the symbol alone
+	macro
+	global
 )
 
 // meaningOf tells what an identifier means, and where its variable is if it is a local one.
-func (s *scope) meaningOf(name identifier) (meaning, eval.Address) {
-	for out := 0; s != nil; out++ {
-		if at := slices.Index(s.names, name); at >= 0 {
-			return local, eval.Address{Out: out, At: at}
-		}
-		s = s.outer
+func (x *Expander) meaningOf(name identifier) (meaning, eval.Address) {
+	address, bound := x.around.find(name)
+	_, rewrites := x.macros[name.symbol]
+	switch {
+	case bound:
+		return local, address
+	case isKeyword(name.symbol):
+		return keyword, address
+	case rewrites:
+		return macro, address
 	}
-	if isKeyword(name.symbol) {
-		return keyword, eval.Address{}
-	}
-	return global, eval.Address{}
+	return global, address
 }
 
 func isKeyword(symbol string) bool {

@@ -50,7 +50,5 @@ func eachMember(list value.Value, visit func(value.Value)) {
 		visit(pair.First)
 		list = pair.Second
 	}
-	if list != (value.Empty{}) {
-		panic(verdict.Of(api.Mistyped))
-	}
+	verdict.Unless(list == value.Empty{}, api.Mistyped)
 }

@@ -19,11 +19,7 @@ func defineNumbers(m *eval.Machine) {
 	m.Define("<", two(func(a, b value.Number) value.Value { return value.Boolean(a < b) }))
 }
 
-func mustFit(fits bool) {
-	if !fits {
-		panic(verdict.Of(api.Overflow))
-	}
-}
+func mustFit(fits bool) { verdict.Unless(fits, api.Overflow) }
 
 func add(a, b value.Number) value.Value {
 	mustFit(b >= 0 && a <= math.MaxInt64-b || b < 0 && a >= math.MinInt64-b)

@@ -28,9 +28,7 @@ func as[T value.Value](v value.Value) T {
 }
 
 func mustBe(arguments []value.Value, count int) {
-	if len(arguments) != count {
-		panic(verdict.Of(api.Miscalled))
-	}
+	verdict.Unless(len(arguments) == count, api.Miscalled)
 }
 
 // one makes a primitive of one argument, whose kind is work's.
@@ -53,6 +51,8 @@ func two[A, B value.Value](work func(A, B) value.Value) *value.Procedure {
 
 func defineOthers(m *eval.Machine) {
 	m.Define("apply", apply(m))
+	m.Define("call/cc", callWithContinuation(m))
+	m.Define("dynamic-wind", dynamicWind(m))
 	m.Define("error", one(func(v value.Value) value.Value {
 		panic(verdict.Ending{Verdict: api.Raised, Value: value.Start(v, api.MaxText)})
 	}))
@@ -60,6 +60,26 @@ func defineOthers(m *eval.Machine) {
 		m.Cells.Take(1)
 		return &value.Seal{Open: func() value.Value { return v }}
 	}))
+}
+
+// callWithContinuation hands out, as a procedure, what is to be done with its own value.
+func callWithContinuation(m *eval.Machine) *value.Procedure {
+	return &value.Procedure{Apply: func(arguments []value.Value, use value.Use) value.Next {
+		mustBe(arguments, 1)
+		procedure := as[*value.Procedure](arguments[0])
+		m.Cells.Take(1)
+		return m.Apply(procedure, []value.Value{m.Continuation(use)}, use)
+	}}
+}
+
+func dynamicWind(m *eval.Machine) *value.Procedure {
+	return &value.Procedure{Apply: func(arguments []value.Value, use value.Use) value.Next {
+		mustBe(arguments, 3)
+		before := as[*value.Procedure](arguments[0])
+		during := as[*value.Procedure](arguments[1])
+		after := as[*value.Procedure](arguments[2])
+		return m.Wind(before, during, after, use)
+	}}
 }
 
 // apply does not give a value itself: it hands on what is to be done with the procedure's.

@@ -35,6 +35,12 @@ func counted() []struct {
 		{"(apply + '(1 2))", 8, 2}, {"(apply list '())", 6, 0}, {"(apply list '(1 2))", 8, 4}, {"(apply (lambda x x) '(1))", 8, 4}, {"(apply apply (list + '(1 2)))", 15, 4},
 		{"secrets", 1, 0}, {"(list out in clock dice key)", 8, 5},
 		{"(define (f x) (if (= x 0) 1 (* x (f (- x 1))))) (f 5)", 103, 7},
+		{one, 0, 0}, {one + "(one)", 1, 0}, {one + "(+ (one) 1)", 5, 0}, {macro("", "((_ x ...) '(x ...))") + "(m 1 2 (3))", 1, 4}, {swap + "(define t 1) (define u 2) (swap t u) (cons t u)", 18, 3},
+		{"(call/cc (lambda (k) (k 1)))", 9, 3}, {"(+ 1 (call/cc (lambda (k) (+ 10 (k 1)))))", 16, 3}, {"(call/cc procedure?)", 5, 1}, {"(call/cc call/cc)", 6, 2}, {"(call/cc (lambda (k) 1))", 6, 3},
+		{"(define k #f) (call/cc (lambda (c) (set! k c))) (k 1)", 13, 3},
+		{"(dynamic-wind list list list)", 9, 0}, {"(dynamic-wind list (lambda () '(1)) list)", 10, 2}, {"(dynamic-wind list (lambda () (dynamic-wind list list list)) list)", 18, 1},
+		{"(call/cc (lambda (k) (dynamic-wind list (lambda () (k 1)) list)))", 18, 4},
+		{"(define k #f) (dynamic-wind list (lambda () (call/cc (lambda (c) (set! k c)))) list) (let ((j k)) (set! k #f) (if j (j 1) 0))", 32, 6},
 	}
 }
 
@@ -141,6 +147,14 @@ func TestP13P14Order(t *testing.T) {
 		{"(symbol->string 'a)", 4, 0, api.Report{Verdict: api.NoCells, Steps: 4}},
 		{"(seal 1)", 4, 0, api.Report{Verdict: api.NoCells, Steps: 4}},
 		{"(quotient 1 0)", 4, 0, api.Report{Verdict: api.NoFuel, Steps: 4}},
+		{"(call/cc 1)", 4, 0, api.Report{Verdict: api.Mistyped, Steps: 4}},
+		{"(call/cc list)", 4, 0, api.Report{Verdict: api.NoCells, Steps: 4}},
+		{"(call/cc list)", 4, 1, api.Report{Verdict: api.NoFuel, Steps: 4, Cells: 1}},
+		{"(call/cc (lambda (k) (k)))", 8, 3, api.Report{Verdict: api.Miscalled, Steps: 8, Cells: 3}},
+		{"(call/cc (lambda (k) (k)))", 7, 3, api.Report{Verdict: api.NoFuel, Steps: 7, Cells: 3}},
+		{"(dynamic-wind list 1 list)", 6, 0, api.Report{Verdict: api.Mistyped, Steps: 6}},
+		{"(dynamic-wind list list list)", 6, 0, api.Report{Verdict: api.NoFuel, Steps: 6}},
+		{"(dynamic-wind list list car)", 9, 0, api.Report{Verdict: api.Miscalled, Steps: 9}},
 		{"(define (loop) (loop)) (loop)", 50, 1, api.Report{Verdict: api.NoFuel, Place: 23, Steps: 50, Cells: 1}},
 		{"(define (grow x) (grow (list x x x)))(grow 1)", 20000, 5000, api.Report{Verdict: api.NoCells, Place: 37, Steps: 11255, Cells: 5000}},
 	} {

@@ -5,6 +5,7 @@ import (
 	"pupil/datum"
 	"pupil/eval"
 	"pupil/expand"
+	"pupil/meter"
 	"pupil/primitive"
 	"pupil/read"
 	"pupil/value"
@@ -16,15 +17,17 @@ const allGrants = api.Out | api.In | api.Clock | api.Dice | api.Unseal
 
 // run is one submission on its way to a report.
 type run struct {
-	machine *eval.Machine
-	report  api.Report
+	machine  *eval.Machine
+	rewrites *meter.Meter
+	report   api.Report
 }
 
 func grade(s api.Submission) api.Report {
-	r := &run{machine: eval.New(s.Fuel, s.Quota)}
+	r := &run{machine: eval.New(s.Fuel, s.Quota), rewrites: meter.New(s.Rewrites, api.NoRewrite)}
 	r.submission(s)
 	r.report.Steps = r.machine.Steps.Taken()
 	r.report.Cells = r.machine.Cells.Taken()
+	r.report.Rewrites = r.rewrites.Taken()
 	return r.report
 }
 
@@ -76,7 +79,7 @@ func (r *run) formsOf(text string) []read.Form {
 
 // deal deals with the forms, one after the other: what one of them defines, the next ones are expanded with.
 func (r *run) deal(forms []read.Form) {
-	expander := expand.New(r.machine)
+	expander := expand.New(r.machine, r.rewrites)
 	for i, form := range forms {
 		r.report.Place = form.Place
 		given := r.machine.Run(expander.Form(form.Datum))

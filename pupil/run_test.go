@@ -15,7 +15,7 @@ func full(text string) api.Submission {
 }
 
 func limited(text string, fuel, quota int) api.Submission {
-	return api.Submission{Text: text, Fuel: fuel, Quota: quota}
+	return api.Submission{Text: text, Fuel: fuel, Rewrites: api.MaxRewrites, Quota: quota}
 }
 
 func wantReport(t *testing.T, promise string, s api.Submission, want api.Report) {

@@ -21,19 +21,39 @@ func checkReport(t *testing.T, s api.Submission, r api.Report) {
 		unread != (r.Reason != api.OK),
 		r.Value != "" && !done && !raised || len(r.Value) > api.MaxText,
 		r.Steps < 0 || r.Steps > s.Fuel || r.Verdict == api.NoFuel && r.Steps != s.Fuel,
-		r.Cells < 0 || r.Cells > s.Quota || r.Verdict == api.NoCells && r.Cells != s.Quota:
+		r.Cells < 0 || r.Cells > s.Quota || r.Verdict == api.NoCells && r.Cells != s.Quota,
+		r.Rewrites < 0 || r.Rewrites > s.Rewrites || r.Verdict == api.NoRewrite && r.Rewrites != s.Rewrites:
 		t.Errorf("P1, P6, P7: Run(%+v) = %+v", s, r)
 	}
 }
 
 // soup is a text of words that stand in programs, in any order.
 func soup(dice *rand.Rand) string {
-	words := strings.Fields(`( ( ( ( ) ) ) ) ' x y f 0 1 -7 #t #f "s" quote if define set! lambda let begin define-syntax ... _ . + - * quotient = cons car cdr list length append equal? apply error seal secrets out`)
+	words := strings.Fields(`( ( ( ( ) ) ) ) ' x y f 0 1 -7 #t #f "s" quote if define set! lambda let begin define-syntax ... _ . + - * quotient = cons car cdr list length append equal? apply error seal secrets out call/cc dynamic-wind`)
+	return anyOf(words, dice.Intn(40), dice)
+}
+
+func anyOf(words []string, count int, dice *rand.Rand) string {
 	var text strings.Builder
-	for range dice.Intn(40) {
+	for range count {
 		text.WriteString(words[dice.Intn(len(words))] + " ")
 	}
 	return text.String()
+}
+
+// macroSoup is a macro with any rules, and uses of it.
+func macroSoup(dice *rand.Rand) string {
+	words := strings.Fields(`( ( ( ) ) ) ... ... x y z _ l m 1 #t "s" if list '`)
+	some := func(most int) string { return closed(anyOf(words, dice.Intn(most), dice)) }
+	text := "(define-syntax m (syntax-rules (l) "
+	for range 1 + dice.Intn(3) {
+		text += "((_ " + some(8) + ") (list " + some(12) + "))"
+	}
+	text += "((_ x ...) '(x ...))))"
+	for range 1 + dice.Intn(3) {
+		text += "(m " + some(12) + ")"
+	}
+	return text
 }
 
 // closed puts brackets where soup lacks them, so that most of it is read.
@@ -61,15 +81,22 @@ func TestP1AnyText(t *testing.T) {
 		if dice.Intn(10) > 0 {
 			text = closed(text)
 		}
-		s := api.Submission{Text: text, Fuel: dice.Intn(200), Quota: dice.Intn(50), Grants: dice.Intn(32)}
-		r := New().Run(s)
-		checkReport(t, s, r)
-		// P20: whatever was not short of something comes out the same with more.
-		if r.Verdict != api.NoFuel && r.Verdict != api.NoCells {
-			more := s
-			more.Fuel, more.Quota = api.MaxFuel, api.MaxQuota
-			wantReport(t, "P20", more, r)
-		}
+		checkRun(t, text, dice)
+		checkRun(t, macroSoup(dice), dice)
+	}
+}
+
+// checkRun runs a text with any limits.
+func checkRun(t *testing.T, text string, dice *rand.Rand) {
+	t.Helper()
+	s := api.Submission{Text: text, Fuel: dice.Intn(200), Rewrites: dice.Intn(9), Quota: dice.Intn(50), Grants: dice.Intn(32)}
+	r := New().Run(s)
+	checkReport(t, s, r)
+	// P20: whatever was not short of something comes out the same with more.
+	if r.Verdict != api.NoFuel && r.Verdict != api.NoCells && r.Verdict != api.NoRewrite {
+		more := s
+		more.Fuel, more.Rewrites, more.Quota = api.MaxFuel, api.MaxRewrites, api.MaxQuota
+		wantReport(t, "P20", more, r)
 	}
 }
 
@@ -84,6 +111,7 @@ func manySubmissions() []api.Submission {
 	all := []api.Submission{{}, {Grants: -1}, {Text: "(", Fuel: 5}, {Secrets: []string{"7", "(a)"}, Text: "secrets", Fuel: 5, Quota: 4}}
 	for _, text := range []string{
 		"(define car 1) (define x 2) x", "car", "x", "(set! cdr car) (cdr '(1 2))", "(cdr '(1 2))", "(define (loop) (loop)) (loop)", "(loop)", "(error '(1 2))", "(if)",
+		"(define-syntax car (syntax-rules () ((_ x) 'macro))) (car 1)", "(car 1)", "(define k #f) (call/cc (lambda (c) (set! k c))) k", "(dynamic-wind list k list)", "(dynamic-wind list (lambda () (error 1)) list)", "(call/cc (lambda (k) (k 1)))",
 		"(define secrets 1) secrets", "secrets", "(eq? (seal 1) (seal 1))", "(define out 1) out", "out", "'(1 2 3)",
 	} {
 		all = append(all, full(text))

@@ -9,3 +9,10 @@ type Ending struct {
 
 // Of makes an Ending without a value.
 func Of(verdict int) Ending { return Ending{Verdict: verdict} }
+
+// Unless ends the run with a verdict, unless what it needs holds.
+func Unless(holds bool, verdict int) {
+	if !holds {
+		panic(Of(verdict))
+	}
+}
