@@ -1,9 +1,8 @@
 package eval
 
 import (
-	"pupil/api"
+	"pupil/argument"
 	"pupil/value"
-	"pupil/verdict"
 )
 
 // Frame holds the variables of one call of a lambda.
@@ -25,7 +24,7 @@ func (f *Frame) variable(a Address) *value.Value {
 // Lambda gives a procedure of so many parameters.
 func (m *Machine) Lambda(parameters int, body Code) Code {
 	return m.lambda(body, func(arguments []value.Value) []value.Value {
-		verdict.Unless(len(arguments) == parameters, api.Miscalled)
+		argument.MustBe(parameters, arguments)
 		m.Cells.Take(parameters)
 		return arguments
 	})

@@ -1,9 +1,8 @@
 package eval
 
 import (
-	"pupil/api"
+	"pupil/argument"
 	"pupil/value"
-	"pupil/verdict"
 )
 
 // winder is what one dynamic-wind puts in force, on top of what was in force ahead of it: so the latest one stands for all. Each is told from the others by its address, and never changes.
@@ -36,7 +35,7 @@ func (m *Machine) Wind(before, during, after *value.Procedure, use value.Use) va
 func (m *Machine) Continuation(use value.Use) *value.Procedure {
 	winders := m.winders
 	return &value.Procedure{Apply: func(arguments []value.Value, _ value.Use) value.Next {
-		verdict.Unless(len(arguments) == 1, api.Miscalled)
+		argument.MustBe(1, arguments)
 		return m.rewind(winders, func() value.Next { return use(arguments[0]) })
 	}}
 }

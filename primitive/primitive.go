@@ -3,6 +3,7 @@ package primitive
 
 import (
 	"pupil/api"
+	"pupil/argument"
 	"pupil/eval"
 	"pupil/value"
 	"pupil/verdict"
@@ -19,32 +20,20 @@ func Define(m *eval.Machine) {
 	defineOthers(m)
 }
 
-// as takes an argument as one of a kind.
-func as[T value.Value](v value.Value) T {
-	if t, ok := v.(T); ok {
-		return t
-	}
-	panic(verdict.Of(api.Mistyped))
-}
-
-func mustBe(arguments []value.Value, count int) {
-	verdict.Unless(len(arguments) == count, api.Miscalled)
-}
-
 // one makes a primitive of one argument, whose kind is work's.
 func one[A value.Value](work func(A) value.Value) *value.Procedure {
 	return &value.Procedure{Apply: func(arguments []value.Value, use value.Use) value.Next {
-		mustBe(arguments, 1)
-		return use(work(as[A](arguments[0])))
+		argument.MustBe(1, arguments)
+		return use(work(argument.As[A](arguments[0])))
 	}}
 }
 
 // two makes a primitive of two arguments, whose kinds are work's.
 func two[A, B value.Value](work func(A, B) value.Value) *value.Procedure {
 	return &value.Procedure{Apply: func(arguments []value.Value, use value.Use) value.Next {
-		mustBe(arguments, 2)
-		a := as[A](arguments[0])
-		b := as[B](arguments[1])
+		argument.MustBe(2, arguments)
+		a := argument.As[A](arguments[0])
+		b := argument.As[B](arguments[1])
 		return use(work(a, b))
 	}}
 }
@@ -65,8 +54,8 @@ func defineOthers(m *eval.Machine) {
 // callWithContinuation hands out, as a procedure, what is to be done with its own value.
 func callWithContinuation(m *eval.Machine) *value.Procedure {
 	return &value.Procedure{Apply: func(arguments []value.Value, use value.Use) value.Next {
-		mustBe(arguments, 1)
-		procedure := as[*value.Procedure](arguments[0])
+		argument.MustBe(1, arguments)
+		procedure := argument.As[*value.Procedure](arguments[0])
 		m.Cells.Take(1)
 		return m.Apply(procedure, []value.Value{m.Continuation(use)}, use)
 	}}
@@ -74,10 +63,10 @@ func callWithContinuation(m *eval.Machine) *value.Procedure {
 
 func dynamicWind(m *eval.Machine) *value.Procedure {
 	return &value.Procedure{Apply: func(arguments []value.Value, use value.Use) value.Next {
-		mustBe(arguments, 3)
-		before := as[*value.Procedure](arguments[0])
-		during := as[*value.Procedure](arguments[1])
-		after := as[*value.Procedure](arguments[2])
+		argument.MustBe(3, arguments)
+		before := argument.As[*value.Procedure](arguments[0])
+		during := argument.As[*value.Procedure](arguments[1])
+		after := argument.As[*value.Procedure](arguments[2])
 		return m.Wind(before, during, after, use)
 	}}
 }
@@ -85,8 +74,8 @@ func dynamicWind(m *eval.Machine) *value.Procedure {
 // apply does not give a value itself: it hands on what is to be done with the procedure's.
 func apply(m *eval.Machine) *value.Procedure {
 	return &value.Procedure{Apply: func(arguments []value.Value, use value.Use) value.Next {
-		mustBe(arguments, 2)
-		procedure := as[*value.Procedure](arguments[0])
+		argument.MustBe(2, arguments)
+		procedure := argument.As[*value.Procedure](arguments[0])
 		var members []value.Value
 		eachMember(arguments[1], func(v value.Value) {
 			m.Steps.Take(1)

@@ -7,7 +7,7 @@ import (
 	"pupil/api"
 )
 
-// primitives are those that are there by now, each with the kinds of its arguments.
+// primitives are those that ask for no grant, each with the kinds of its arguments.
 func primitives() [][]string {
 	var all [][]string
 	for line := range strings.SplitSeq(`+ number number
@@ -45,6 +45,11 @@ seal any`, "\n") {
 	return all
 }
 
+// grantPrimitives are those that ask for a grant, which is named by its variable, ahead of other kinds.
+func grantPrimitives() [][]string {
+	return [][]string{{"write", "out", "any"}, {"read-line", "in"}, {"tick", "clock"}, {"roll", "dice", "number"}, {"unseal", "key", "seal"}}
+}
+
 // sample is an expression that gives a value of one kind.
 type sample struct {
 	text, kind   string
@@ -63,20 +68,20 @@ func (s sample) is(kind string) bool {
 }
 
 // everyCall yields every choice of so many samples.
-func everyCall(count int, chosen []sample, yield func([]sample)) {
+func everyCall(samples []sample, count int, chosen []sample, yield func([]sample)) {
 	if len(chosen) == count {
 		yield(chosen)
 		return
 	}
-	for _, s := range samples() {
-		everyCall(count, append(chosen[:len(chosen):len(chosen)], s), yield)
+	for _, s := range samples {
+		everyCall(samples, count, append(chosen[:len(chosen):len(chosen)], s), yield)
 	}
 }
 
 // What is of the wrong kind is told behind the steps of the application, its members and the applying, ahead of all that the primitive takes.
 func TestP14Kinds(t *testing.T) {
 	for _, p := range primitives() {
-		everyCall(len(p)-1, nil, func(arguments []sample) {
+		everyCall(samples(), len(p)-1, nil, func(arguments []sample) {
 			text, right, want := "("+p[0], true, api.Report{Verdict: api.Mistyped, Steps: 3}
 			for i, a := range arguments {
 				text += " " + a.text
@@ -96,12 +101,12 @@ func TestP14Kinds(t *testing.T) {
 }
 
 func TestP14Miscalled(t *testing.T) {
-	for _, p := range primitives() {
+	for _, p := range append(primitives(), grantPrimitives()...) {
 		for count := range 5 {
 			if count == len(p)-1 {
 				continue
 			}
-			// Nothing is an argument of the wrong kind: that they are too few or too many comes ahead of that.
+			// Nothing is an argument of the wrong kind, and no grant: that they are too few or too many comes ahead of that.
 			s := full("(define n (if #f 1)) (" + p[0] + strings.Repeat(" n", count) + ")")
 			wantReport(t, "P14", s, api.Report{Verdict: api.Miscalled, Place: 21, Steps: 6 + count})
 		}
@@ -109,7 +114,7 @@ func TestP14Miscalled(t *testing.T) {
 }
 
 func TestP14PrimitivesAreVariables(t *testing.T) {
-	for _, p := range append(primitives(), []string{"list"}) {
+	for _, p := range append(append(primitives(), grantPrimitives()...), []string{"list"}) {
 		wantValue(t, "P14", p[0], "#<procedure>")
 		wantValue(t, "P14", "(eq? "+p[0]+" "+p[0]+")", "#t")
 		wantValue(t, "P14", "(define "+p[0]+" 5) "+p[0], "5")

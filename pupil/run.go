@@ -19,16 +19,35 @@ const allGrants = api.Out | api.In | api.Clock | api.Dice | api.Unseal
 type run struct {
 	machine  *eval.Machine
 	rewrites *meter.Meter
-	report   api.Report
+	world    *world.World
+	report   api.Report // how it ended; the grader adds what there was up to then
 }
 
+// grade lets the program run in a goroutine of its own, which tells its events and closes them when the run has ended.
 func grade(s api.Submission) api.Report {
-	r := &run{machine: eval.New(s.Fuel, s.Quota), rewrites: meter.New(s.Rewrites, api.NoRewrite)}
-	r.submission(s)
-	r.report.Steps = r.machine.Steps.Taken()
-	r.report.Cells = r.machine.Cells.Taken()
-	r.report.Rewrites = r.rewrites.Taken()
-	return r.report
+	events := make(chan api.Event)
+	machine := eval.New(s.Fuel, s.Quota)
+	r := &run{machine: machine, rewrites: meter.New(s.Rewrites, api.NoRewrite), world: world.New(machine, s, events)}
+	go func() {
+		defer close(events)
+		r.submission(s)
+	}()
+	return r.gathered(events)
+}
+
+// gathered gathers the report. Until the events are closed the run is the program's: only then is it looked at here.
+func (r *run) gathered(events <-chan api.Event) api.Report {
+	var told []api.Event
+	for event := range events {
+		told = append(told, event)
+	}
+	report := r.report
+	report.Output = r.world.Output()
+	report.Steps = r.machine.Steps.Taken()
+	report.Cells = r.machine.Cells.Taken()
+	report.Rewrites = r.rewrites.Taken()
+	report.Events = told
+	return report
 }
 
 // submission is the one call that catches what ends a run. Any other panic would be a fault of this program: it is caught as well, for none may come out, and leaves a report without a verdict.
@@ -42,7 +61,7 @@ func (r *run) submission(s api.Submission) {
 	secrets := secretsOf(s.Secrets)
 	forms := r.formsOf(s.Text)
 	primitive.Define(r.machine)
-	world.Define(r.machine, s.Grants, secrets)
+	r.world.Define(s.Grants, secrets)
 	r.deal(forms)
 	r.report.Verdict, r.report.Place = api.Done, 0
 }
